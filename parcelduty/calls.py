@@ -1,4 +1,4 @@
-"""The calls: each takes the office and the call's arguments, and gives back the numbers it answers.
+"""The calls that change something: each takes the office and the call's arguments, and gives back what it answers.
 
 The refusals of a call stand in the order in which they are told, all ahead of the first change.
 """
@@ -7,34 +7,20 @@ from parcelduty.bounds import MOST_AMOUNT, MOST_DAY, MOST_DAYS_AT_ONCE, MOST_DEC
 from parcelduty.bounds import MOST_LICENCE, MOST_MONEY, MOST_PARCELS, MOST_RATE, MOST_TARIFF_BYTES
 from parcelduty.bounds import MOST_THRESHOLD, MOST_VALUE
 from parcelduty.declaration import read_declaration
-from parcelduty.duties import look_at
-from parcelduty.parcels import LICENCE_MISSING, RELEASED, SENT_BACK, TO_BE_PAID, Good, Parcel
+from parcelduty.duties import group_of, look_at
+from parcelduty.parcels import LICENCE_MISSING, RELEASED, SENT_BACK, TO_BE_PAID, Good, Parcel, Settling
+from parcelduty.replies import ALREADY_SO, NOT_AS_TOLD, NOT_NOW, NOT_THERE, NO_CODE, NO_RATE, OUT_OF_RANGE, TOO_MANY
+from parcelduty.replies import WRONG_LINE, group_refusal, parcel_refusal, row
 from parcelduty.tariff import read_tariff, rule_for
 from parcelduty.texts import is_full_code
 
-OUT_OF_RANGE = -1
-NO_CODE = -2
-NO_RATE = -3
-NOT_THERE = -4
-ALREADY_SO = -5
-NOT_NOW = -6
-NOT_AS_TOLD = -7
-TOO_MANY = -8
-WRONG_LINE = -1000
-
-
-def parcel_refusal(office, number):
-    """Why a number is no parcel's, 0 if it's one's."""
-    if not 1 <= number <= MOST_PARCELS:
-        return OUT_OF_RANGE
-    if number > len(office.parcels):
-        return NOT_THERE
-    return 0
+OWES_MORE = 1
+OWES_LESS = 2
 
 
 def parcel_answer(number, parcel):
     """What is answered of a parcel that was looked at."""
-    return [number, 2, parcel.state, parcel.charged]
+    return [number] + row([parcel.state, parcel.charged])
 
 
 def begin_anew(office, threshold):
@@ -170,3 +156,15 @@ def send_back(office, number):
     parcel.state = SENT_BACK
     parcel.charged = 0
     return [0]
+
+
+def settle(office, sender, receiver, week):
+    """What a group was charged is settled to what it owes."""
+    refusal = group_refusal(sender, receiver, week)
+    if refusal < 0:
+        return [refusal]
+    amount = group_of(office, sender, receiver, week).due()
+    if amount == 0:
+        return [NOT_NOW]
+    office.settlings.append(Settling(sender, receiver, week, amount))
+    return [OWES_MORE if amount > 0 else OWES_LESS] + row([amount])

@@ -1,7 +1,11 @@
 """Lists of calls, and what is answered to them."""
 
-from parcelduty.calls import add_licence, begin_anew, declare, inspect, pass_days, pay, send_back, set_rate, set_tariff
+from parcelduty.calls import add_licence, begin_anew, declare, inspect, pass_days, pay, send_back, set_rate
+from parcelduty.calls import set_tariff, settle
 from parcelduty.parcels import Office
+from parcelduty.views import tell_counts, tell_declaration, tell_good, tell_group, tell_parcel, tell_rule, tell_tariff
+
+FIRST_TELLING_CALL = 10
 
 
 class UnknownCall(ValueError):
@@ -33,9 +37,8 @@ class CallReader:
         return row
 
 
-def answer(office, reader):
-    """Carry out the call that comes, and give back the numbers it answers."""
-    call = reader.take()
+def change(office, call, reader):
+    """Carry out a call that changes something, and give back the numbers it answers."""
     if call == 0:
         return begin_anew(office, reader.take())
     if call == 1:
@@ -54,7 +57,36 @@ def answer(office, reader):
         return inspect(office, reader.take(), reader.take(), reader.take(), reader.take_row())
     if call == 8:
         return send_back(office, reader.take())
+    if call == 9:
+        return settle(office, reader.take(), reader.take(), reader.take())
     raise UnknownCall("no call has this number")
+
+
+def tell(office, call, reader):
+    """Give back the numbers that a call answers which only tells."""
+    if call == 10:
+        return tell_parcel(office, reader.take())
+    if call == 11:
+        return tell_good(office, reader.take(), reader.take())
+    if call == 12:
+        return tell_group(office, reader.take(), reader.take(), reader.take())
+    if call == 13:
+        return tell_rule(office, reader.take(), reader.take_row())
+    if call == 14:
+        return tell_tariff(office)
+    if call == 15:
+        return tell_declaration(reader.take_row())
+    if call == 16:
+        return tell_counts(office)
+    raise UnknownCall("no call has this number")
+
+
+def answer(office, reader):
+    """Carry out the call that comes, and give back the numbers it answers."""
+    call = reader.take()
+    if call < FIRST_TELLING_CALL:
+        return change(office, call, reader)
+    return tell(office, call, reader)
 
 
 def answers(calls):

@@ -1,7 +1,8 @@
-"""Declarations: how they are read from a text, line by line."""
+"""Declarations: how they are read from a text, line by line, and written."""
 
 from parcelduty.bounds import MOST_GOODS, MOST_LICENCE, MOST_MONEY, MOST_ORIGIN, MOST_PERSON
-from parcelduty.texts import NO_NUMBER, is_full_code, lines_of_words, money_told, number_within, spelled
+from parcelduty.texts import NO_NUMBER, code_written, is_full_code, lines_of_words, money_told, money_written
+from parcelduty.texts import number_within, spelled
 
 
 class Item:
@@ -87,3 +88,16 @@ def read_declaration(text):
     if not found.wares:
         found.wrong_line = len(lines) + 1
     return found
+
+
+def item_written(item):
+    """An item as a line."""
+    return " ".join(["ITEM", code_written(item.code), money_written(item.value), str(item.origin)])
+
+
+def declaration_written(found):
+    """The bytes of the text that tells a declaration."""
+    lines = ["FROM " + str(found.sender), "TO " + str(found.receiver), "MONEY " + str(found.money)]
+    lines.extend([item_written(item) for item in found.wares])
+    lines.extend(["LICENCE " + str(licence) for licence in found.licences])
+    return spelled("\n".join(lines))

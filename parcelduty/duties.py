@@ -41,27 +41,46 @@ def is_of_group(parcel, sender, receiver, week):
     return parcel.state in (TO_BE_PAID, RELEASED)
 
 
-def group_of(office, sender, receiver, week):
+def parcels_of(office, sender, receiver, week):
     """The parcels of a group."""
     return [parcel for parcel in office.parcels if is_of_group(parcel, sender, receiver, week)]
 
 
-def gathered_parts(group):
-    """All worths of a group's goods, in parts."""
-    return sum([worths_together(parcel) for parcel in group])
+def settled_for(office, sender, receiver, week):
+    """The amounts of all settlings for a sender, a receiver and a week, in hundredths."""
+    amounts = []
+    for settling in office.settlings:
+        if settling.sender == sender and settling.receiver == receiver and settling.week == week:
+            amounts.append(settling.amount)
+    return sum(amounts)
 
 
-def owed_by(group, threshold):
-    """What a group owes, in hundredths."""
-    if gathered_parts(group) <= threshold * PARTS:
+def owed_by(parcels, gathered, threshold):
+    """What a group's parcels owe in hundredths, where their worths come to what is gathered."""
+    if gathered <= threshold * PARTS:
         return 0
     # Rounded down once for all: parting goods over parcels must not lose a fraction each time.
-    return sum([dues_together(parcel) for parcel in group]) // PARTS
+    return sum([dues_together(parcel) for parcel in parcels]) // PARTS
 
 
-def charged_to(group):
-    """What a group's parcels were charged, in hundredths."""
-    return sum([parcel.charged for parcel in group])
+class Group:
+    """How many parcels a group has, what they are worth (parts), what it owes and was charged (hundredths)."""
+
+    def __init__(self, parcels, settled, threshold):
+        self.size = len(parcels)
+        self.gathered = sum([worths_together(parcel) for parcel in parcels])
+        self.owed = owed_by(parcels, self.gathered, threshold)
+        self.charged = sum([parcel.charged for parcel in parcels]) + settled
+
+    def due(self):
+        """What it owes less what it was charged."""
+        return self.owed - self.charged
+
+
+def group_of(office, sender, receiver, week):
+    """The group of a sender, a receiver and a week."""
+    parcels = parcels_of(office, sender, receiver, week)
+    return Group(parcels, settled_for(office, sender, receiver, week), office.threshold)
 
 
 def has_barred(parcel):
@@ -80,10 +99,9 @@ def charge(office, parcel):
     # The parcel must count in its own group, and what it was charged before must not.
     parcel.state = TO_BE_PAID
     parcel.charged = 0
-    group = group_of(office, parcel.sender, parcel.receiver, week_of(parcel.day))
-    due = owed_by(group, office.threshold) - charged_to(group)
-    if due > 0:
-        parcel.charged = due
+    amount = group_of(office, parcel.sender, parcel.receiver, week_of(parcel.day)).due()
+    if amount > 0:
+        parcel.charged = amount
     else:
         parcel.state = RELEASED
 

@@ -1,4 +1,6 @@
-"""What the customs keep: the day, the threshold, the tariff, rates and parcels with their goods."""
+"""What the customs keep: the day, the threshold, the tariff, rates, parcels with their goods, and settlings."""
+
+from parcelduty.tariff import duty_from
 
 BARRED = 1
 LICENCE_MISSING = 2
@@ -14,7 +16,7 @@ class Good:
         self.code = code
         self.value = value
         self.origin = origin
-        self.duty = 0 if origin in rule.free else rule.duty
+        self.duty = duty_from(rule, origin)
         self.tax = rule.tax
         self.barred = rule.barred
         self.licence = rule.licence
@@ -34,6 +36,16 @@ class Parcel:
         self.charged = 0
 
 
+class Settling:
+    """What a group came to owe more than it was charged, in hundredths (below 0: less)."""
+
+    def __init__(self, sender, receiver, week, amount):
+        self.sender = sender
+        self.receiver = receiver
+        self.week = week
+        self.amount = amount
+
+
 class Office:
     """The object that a list of calls is about."""
 
@@ -47,3 +59,4 @@ class Office:
         self.rules = {}
         self.rates = {}
         self.parcels = []
+        self.settlings = []

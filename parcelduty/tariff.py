@@ -1,7 +1,7 @@
-"""The tariff: its rules, how they are read from a text, and the rule for a code."""
+"""The tariff: its rules, how they are read from a text and written, and the rule for a code."""
 
 from parcelduty.bounds import MOST_LICENCE, MOST_ORIGIN, MOST_RULES, MOST_THOUSANDTHS
-from parcelduty.texts import NO_NUMBER, is_code, lines_of_words, number_within, spelled
+from parcelduty.texts import NO_NUMBER, code_written, is_code, lines_of_words, number_within, spelled
 
 
 class Rule:
@@ -98,3 +98,27 @@ def rule_for(rules, code):
         if beginning in rules:
             return rules[beginning]
     return None
+
+
+def duty_from(rule, origin):
+    """The duty that a rule asks for goods of an origin."""
+    return 0 if origin in rule.free else rule.duty
+
+
+def rule_written(rule):
+    """A rule as a line, without the line's end."""
+    words = [code_written(rule.code), str(rule.duty), str(rule.tax)]
+    if rule.barred:
+        words.append("BARRED")
+    if rule.licence > 0:
+        words.extend(["LICENCE", str(rule.licence)])
+    if rule.free:
+        words.append("FREE")
+        words.extend([str(origin) for origin in rule.free])
+    return " ".join(words)
+
+
+def tariff_written(rules):
+    """The bytes of the text that tells rules, by their codes."""
+    lines = [rule_written(rules[code]) for code in sorted(rules)]
+    return spelled("".join([line + "\n" for line in lines]))

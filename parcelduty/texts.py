@@ -35,9 +35,9 @@ def lines_of_words(text):
     return [words_of(line) for line in parted(text, LINE_END)]
 
 
-def spelled(name):
-    """The bytes of a word that the program knows by name."""
-    return [ord(sign) for sign in name]
+def spelled(words):
+    """The bytes of words that the program writes or knows by name."""
+    return [ord(sign) for sign in words]
 
 
 def has_digits_alone(word):
@@ -87,3 +87,15 @@ def money_told(word):
         return NO_NUMBER
     hundredths = coins * 100 + worked_out(word[-2:])
     return hundredths if 1 <= hundredths <= MOST_VALUE else NO_NUMBER
+
+
+def money_written(hundredths):
+    """Hundredths as a text tells them: whole coins, a point, two digits."""
+    coins = str(hundredths // 100)
+    rest = str(hundredths % 100).zfill(2)
+    return f"{coins}.{rest}"
+
+
+def code_written(code):
+    """The digits of a code, as a text."""
+    return "".join([str(byte - DIGIT_0) for byte in code])

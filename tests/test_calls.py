@@ -2,17 +2,15 @@
 
 import unittest
 
-from tests.helper import (back, begin, day, inspect, item, last, licence, money, office, parcel, pay, run, tariff)
+from tests.helper import (back, begin, day, in_each_state, inspect, item, last, licence, money, office, parcel, pay,
+                          run, tariff)
 
 # Goods: 01 ordinary, 02 barred, 03 and 04 with a licence, 05 free of all, 06 free from origin 5.
 RULES = "01 100 0\n02 100 0 BARRED\n03 100 0 LICENCE 3\n04 100 0 LICENCE 4\n05 0 0\n06 300 0 FREE 5"
 
 
 def states():
-    """Calls that end with parcels 1 to 5, each in the state of its number."""
-    one_each = [parcel(item(code), receiver=place) for place, code in
-                ((11, "020101"), (12, "030101"), (13, "010101"), (14, "050101"), (15, "010101"))]
-    return office(RULES) + one_each + [back(5)]
+    return in_each_state(RULES)
 
 
 class States(unittest.TestCase):
@@ -107,7 +105,7 @@ class Licence(unittest.TestCase):
             self.assertEqual(last(*states(), licence(number, 3)), [-6])
 
     def test_it_has_it(self):
-        self.assertEqual(run(*states(), licence(2, 9), licence(2, 9))[-2:], [[2, 2, 2, 0], [-5]])
+        self.assertEqual(run(*states(), licence(2, 9), licence(2, 8), licence(2, 8))[-3:], [[-5], [2, 2, 2, 0], [-5]])
         told = run(*office(RULES), parcel(item("030101"), "LICENCE 1", "LICENCE 9"), licence(1, 9), licence(1, 1))
         self.assertEqual(told[-2:], [[-5], [-5]])
 

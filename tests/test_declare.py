@@ -1,25 +1,28 @@
-"""The call declare: the texts it takes, its refusals and their order."""
+"""The call declare: the texts it takes (read takes them too), its refusals and their order."""
 
 import unittest
 
 from parcelduty.texts import NO_NUMBER, number_told
-from tests.helper import (back, begin, day, declaration, declare, item, last, licence, money, office, parcel, pay, run,
-                          tariff)
+from tests.helper import (back, begin, day, declaration, declare, item, last, licence, money, office, parcel, pay, read,
+                          rows, run, tariff, text_of)
 
 FREE_OF_ALL = "01 0 0"
 
 
-def read(text):
+def declared(text):
     """What the call declare answers to a text, where only its form can be refused."""
     return last(*office(FREE_OF_ALL), money(9, 1), declare(text))
 
 
 class Lines(unittest.TestCase):
     def wrong(self, text, line):
-        self.assertEqual(read(text), [-1000 - line], text)
+        self.assertEqual(declared(text), [-1000 - line], text)
+        self.assertEqual(last(read(text)), [-1000 - line], text)
 
     def right(self, text):
-        self.assertEqual(read(text), [1, 2, 4, 0], text)
+        self.assertEqual(declared(text), [1, 2, 4, 0], text)
+        words = [" ".join(line.split()) for line in text.split("\n")]
+        self.assertEqual(text_of(rows(last(read(text)))[1]), "\n".join(words))
 
     def test_ordinary(self):
         self.right("FROM 1\nTO 2\nMONEY 1\nITEM 010101 10.00 5")
@@ -152,9 +155,9 @@ class Lines(unittest.TestCase):
     def test_length(self):
         text = declaration()
         self.right(text + " " * (1000 - len(text)))
-        self.assertEqual(read(text + " " * (1001 - len(text))), [-1])
-        self.assertEqual(read("x" * 1001), [-1])
-        self.assertEqual(read("x" * 5000), [-1])
+        self.assertEqual(declared(text + " " * (1001 - len(text))), [-1])
+        self.assertEqual(declared("x" * 1001), [-1])
+        self.assertEqual(declared("x" * 5000), [-1])
 
 
 class Numbers(unittest.TestCase):
